@@ -21,7 +21,8 @@ const nothing = 0xff
 // Board is a machine that its processors come to: what they read and write is done to the Machine there, which is its own. It isn't to be copied: its ports are those of the Machine that it was opened with.
 type Board struct {
 	Machine   api.Machine
-	Taken     int // clocks that transfers took
+	Taken     int         // clocks that transfers took
+	Writes    []api.Write // of the other processor to the sound
 	main, aux side
 }
 

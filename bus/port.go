@@ -1,6 +1,7 @@
 package bus
 
 import (
+	"marquee/api"
 	"marquee/cpu"
 	"marquee/pad"
 	"marquee/timer"
@@ -157,11 +158,12 @@ func (b *Board) takeMail() byte {
 	return b.Machine.Mail[0]
 }
 
-// soundWriter makes what writes to a port of the sound.
+// soundWriter makes what writes to a port of the sound. Each byte is kept, those that change nothing too: who runs the machine shows them.
 func (b *Board) soundWriter(at int) func(n byte) {
 	return func(n byte) {
 		// No error: each of these ports is one of the sound's.
 		b.Machine.S, _ = tone.Put(b.Machine.S, at, n)
+		b.Writes = append(b.Writes, api.Write{Clock: b.Machine.Clock, At: at, Value: n})
 	}
 }
 

@@ -2,6 +2,7 @@ package bus
 
 import (
 	"bytes"
+	"slices"
 	"testing"
 
 	"marquee/api"
@@ -305,5 +306,29 @@ func TestTaken(t *testing.T) {
 	main.Write(0xd02e, 250)
 	if b.Taken != 506 {
 		t.Errorf("Taken: %d", b.Taken)
+	}
+}
+
+// A board keeps what the other processor writes to the sound, in order; what the main one writes there, and what goes to other ports, it doesn't.
+func TestWritesAreKept(t *testing.T) {
+	m := blank()
+	m.Clock = 30
+	b, e := Open(m)
+	if e != api.OK {
+		t.Fatal(e)
+	}
+	aux, main := b.Aux(), b.Main()
+	aux.Write(0xd002, 9)
+	main.Write(0xd002, 8)
+	aux.Write(0xdfe7, 7)
+	b.Machine.Clock = 31
+	for _, at := range []uint16{0x8000, 0xc000, 0xcfff, 0xd018, 0xd01f, 0xe000} {
+		aux.Write(at, 6)
+	}
+	aux.Write(0xd017, 5)
+	aux.Read(0xd002)
+	want := []api.Write{{Clock: 30, At: 2, Value: 9}, {Clock: 30, At: 7, Value: 7}, {Clock: 31, At: 23, Value: 5}}
+	if !slices.Equal(b.Writes, want) {
+		t.Errorf("Writes: %v, want %v", b.Writes, want)
 	}
 }
